@@ -10,7 +10,7 @@ import (
 	"adit/api"
 )
 
-// The tests hold the package against a plain model, which keeps every counter that ever came and goes by the chapter's words alone.
+// The tests hold the package against a plain model, which keeps a set of the counters that came and goes by the chapter's words alone.
 
 type model[T Number] struct {
 	size int
